@@ -1,0 +1,175 @@
+"""Promises 1 and 2: what holds for all modules."""
+
+import operator
+import unittest
+
+from wakesafe.blocks import Bit, Block, Signal
+from wakesafe.errors import InvalidBlock, InvalidFormula, InvalidMachine
+from wakesafe.formulas import Formula
+from wakesafe.machines import Machine, Rule
+from tests.helper import Checks, LETTERS, NAMES, RESERVED, deep, no_names, objects
+
+BLOCK = "bit x b kept keeper\nbit y a\nsignal s g & x y\nsignal t f x"
+MACHINE = "first run\nrun ask any -> run: answer\nrun dip a calm -> off: hold, fence f"
+
+
+class NamesTest(Checks, unittest.TestCase):
+    def test_names(self):
+        for name in NAMES + list(LETTERS) + [letter * 4 for letter in LETTERS]:
+            self.assertEqual(Formula.of(name).names, (name,))
+            self.assertEqual(Bit(name, name).area, name)
+            self.assertEqual(Signal(name, Formula.of(name), name).fence, name)
+            self.assertEqual(Machine(name).states, (name,))
+            self.assertEqual(Rule(name, "dip " + name, "any", name, ["cut " + name]).event, "dip " + name)
+
+    def test_values_that_are_no_names(self):
+        self.assertEqual(len(RESERVED), 10)
+        for value in no_names():
+            self.check_error(InvalidFormula, {"word": "name"}, Formula.of, value)
+            self.check_error(InvalidBlock, {"word": "name"}, Bit, value, "a")
+            self.check_error(InvalidBlock, {"word": "name"}, Signal, value, Formula.of("x"))
+            self.check_error(InvalidMachine, {"word": "first"}, Machine, value)
+            self.check_error(InvalidMachine, {"word": "state"}, Rule, value, "ask", "any", "off")
+
+    def test_reserved_words_behind_events_and_deeds(self):
+        for word in RESERVED:
+            for event in ("dip", "spill"):
+                self.check_error(InvalidMachine, {"word": "event"}, Rule, "run", event + " " + word, "any", "off")
+            for deed in ("fence", "open", "save", "load", "cut", "power", "reset"):
+                given = [deed + " " + word]
+                self.check_error(InvalidMachine, {"word": "deeds"}, Rule, "run", "ask", "any", "off", given)
+
+    def test_bools_are_no_integers_and_integers_no_bools(self):
+        for value in (0, 1):
+            self.check_error(InvalidFormula, {"word": "value"}, Formula.always, value)
+            self.check_error(InvalidBlock, {"word": "kept"}, Bit, "x", "a", value)
+            self.check_error(InvalidBlock, {"word": "start"}, Bit, "x", "a", True, True, value)
+
+    def test_deep_values(self):
+        for value in (deep(8), (deep(7),), [[[[[[["x"]]]]]]]):
+            self.check_error(InvalidFormula, {"word": "name"}, Formula.of, value)
+            self.check_error(InvalidBlock, {"word": "bits"}, Block, value)
+            self.check_error(InvalidMachine, {"word": "rules"}, Machine, "run", value)
+            self.check_error(InvalidMachine, {"word": "deeds"}, Rule, "run", "ask", "any", "off", value)
+
+
+class ObjectsTest(Checks, unittest.TestCase):
+    def test_later_changes_to_arguments(self):
+        bits = [Bit("x", "a"), Bit("y", "a")]
+        signals = [Signal("s", Formula.of("x"), "f")]
+        deeds = ["hold", "cut a"]
+        rules = [Rule("run", "ask", "any", "off", deeds)]
+        block, machine, rule = Block(bits, signals), Machine("run", rules), rules[0]
+        texts = str(block), str(machine), str(rule)
+        for given in (bits, signals, deeds, rules):
+            given.reverse()
+            given.append(given.pop(0))
+            given.clear()
+        self.assertEqual((str(block), str(machine), str(rule)), texts)
+        self.assertEqual((len(block), len(block.signals), len(machine), rule.deeds), (2, 1, 1, ("hold", "cut a")))
+        self.assertEqual((block.areas, block.fences, machine.states), (("a",), ("f",), ("off", "run")))
+
+    def test_arguments_stay_as_they_are(self):
+        formula = Formula.read("& x | y z")
+        known = {"z": True, "x": False, "y": True, "w": False}
+        part = {"x": True}
+        given = {"x": Formula.of("y"), "w": Formula.of("z")}
+        formula.value(known)
+        formula.under(part)
+        formula.put(given)
+        self.assertEqual(list(known.items()), [("z", True), ("x", False), ("y", True), ("w", False)])
+        self.assertEqual(part, {"x": True})
+        self.assertEqual({name: str(given[name]) for name in given}, {"x": "y", "w": "z"})
+        self.assertEqual(str(formula), "& x | y z")
+        block = Block.read(BLOCK)
+        names = ["x", "x"]
+        block.keeping(names)
+        self.assertEqual(names, ["x", "x"])
+        self.assertEqual(str(block), BLOCK)
+
+    def test_sequences_are_tuples(self):
+        block, machine = Block.read(BLOCK), Machine.read(MACHINE)
+        rule = Rule("run", "ask", "any", "off", ["hold"])
+        formula = Formula.read("& x y")
+        sequences = [block.bits, block.signals, block.areas, block.fences, machine.rules, machine.states, machine.areas,
+                     machine.fences, rule.deeds, formula.names, formula.needs, Machine("run", []).rules,
+                     Block([Bit("x", "a")], []).signals, Rule("run", "ask", "any", "off", []).deeds]
+        for sequence in sequences:
+            self.assertIs(type(sequence), tuple)
+
+    def test_lists_and_tuples(self):
+        bits, rules = [Bit("x", "a", True, True)], [Rule("run", "ask", "any", "off")]
+        signals = [Signal("s", Formula.of("x"), "f")]
+        self.assertEqual(Block(bits, signals), Block(tuple(bits), tuple(signals)))
+        self.assertEqual(Block(bits).keeping([]), Block(bits).keeping(()))
+        self.assertEqual(Block(bits, signals).fencing(["s"]), Block(bits, signals).fencing(("s",)))
+        self.assertEqual(Machine("run", rules), Machine("run", tuple(rules)))
+        self.assertEqual(Rule("run", "ask", "any", "off", ["go"]), Rule("run", "ask", "any", "off", ("go",)))
+
+    def test_parameter_names(self):
+        formula = Formula.of(name="x")
+        self.assertEqual(str(Formula.always(value=True)), "1")
+        self.assertEqual(str(Formula.read(text="~ x")), "~ x")
+        self.assertIs(formula.value(known={"x": True}), True)
+        self.assertIs(formula.under(known={}), None)
+        self.assertIs(formula.depends(name="x"), True)
+        self.assertEqual(str(formula.put(formulas={"x": Formula.of("y")})), "y")
+        bit = Bit(start=True, keeper=False, kept=True, area="a", name="x")
+        self.assertEqual(str(bit), "bit x a kept start")
+        signal = Signal(fence="f", formula=formula, name="s")
+        self.assertEqual(str(signal), "signal s f x")
+        block = Block(signals=[signal], bits=[bit])
+        self.assertEqual(str(Block.read(text=str(block))), str(block))
+        self.assertEqual((block.bit(name="x"), block.signal(name="s")), (bit, signal))
+        self.assertEqual((block.keeping(names=[]), block.fencing(names=["s"])), (block, block))
+        rule = Rule(deeds=["go"], then="off", guard="any", event="ask", state="run")
+        machine = Machine(rules=[rule], first="run")
+        self.assertEqual(str(Machine.read(text=str(machine))), "first run\nrun ask any -> off: go")
+        self.assertEqual(machine.without(at=0), Machine("run"))
+        self.assertEqual(machine.rule_for(waits=False, event="ask", state="run"), 0)
+
+    def test_equal_to_the_same_class_only(self):
+        things = objects()
+        for m, first in enumerate(things):
+            self.check_alone(first)
+            for n, second in enumerate(objects()):
+                self.assertIs(first == second, m == n)
+                self.assertIs(first != second, m != n)
+
+    def test_not_iterable(self):
+        for thing in objects():
+            self.check_not_iterable(thing)
+            with self.assertRaises(TypeError):
+                first, second = thing
+
+    def test_operators_leave_operands(self):
+        p, q = Formula.of("x"), Formula.read("& x y")
+        ~p, p & q, p | q, p ^ q, p <= q, p == q, p >= q
+        self.assertEqual((str(p), str(q), p.names, q.names), ("x", "& x y", ("x",), ("x", "y")))
+
+    def test_operators_in_place(self):
+        for change, text in ((operator.iand, "& x y"), (operator.ior, "| x y"), (operator.ixor, "^ x y")):
+            p = old = Formula.of("x")
+            p = change(p, Formula.of("y"))
+            self.assertEqual((str(p), str(old), old.names), (text, "x", ("x",)))
+        block = old = Block.read("bit x a")
+        block += Block.read("bit y a")
+        self.assertEqual((str(block), str(old), len(old)), ("bit x a\nbit y a", "bit x a", 1))
+        machine = old = Machine.read("first run")
+        machine += Machine.read("first off\noff ask any -> off")
+        self.assertEqual((str(machine), str(old), len(old)), ("first run\noff ask any -> off", "first run", 0))
+
+    def test_same_call_twice(self):
+        p = Formula.read("| & x y & x ~ y")
+        block, machine = Block.read(BLOCK), Machine.read(MACHINE)
+        for _ in range(3):
+            self.assertEqual((p.needs, p.names, str(p), p.under({"x": False})), (("x",), ("x", "y"), "| & x y & x ~ y", False))
+            self.assertIs(p.depends("y"), False)
+            self.assertEqual((str(block), str(machine)), (BLOCK, MACHINE))
+            self.assertEqual(str(block.keeping([])), BLOCK.replace(" keeper", ""))
+            self.assertEqual(machine.rule_for("run", "dip a", False), 1)
+            self.assertEqual(str(machine.without(1)), "\n".join(MACHINE.split("\n")[:2]))
+
+
+if __name__ == "__main__":
+    unittest.main()

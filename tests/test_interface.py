@@ -1,0 +1,97 @@
+"""The interface: names, arguments and places of what has landed."""
+
+import ast
+import importlib
+import inspect
+import unittest
+
+ERRORS = ["WakeError", "InvalidFormula", "InvalidBlock", "InvalidMachine", "InvalidOrder", "InvalidText", "InvalidEvent",
+          "InvalidGoal", "InvalidCommand", "Mismatch", "Refused", "NoRule", "NoName"]
+CLASSES = {
+    "errors": ERRORS,
+    "formulas": ["Formula"],
+    "blocks": ["Bit", "Signal", "Block"],
+    "machines": ["Rule", "Machine"],
+}
+METHODS = {
+    "formulas.Formula": {"value": ["known"], "under": ["known"], "depends": ["name"], "put": ["formulas"]},
+    "blocks.Bit": {},
+    "blocks.Signal": {},
+    "blocks.Block": {"bit": ["name"], "signal": ["name"], "keeping": ["names"], "fencing": ["names"]},
+    "machines.Rule": {},
+    "machines.Machine": {"without": ["at"], "rule_for": ["state", "event", "waits"]},
+}
+CLASS_METHODS = {
+    "formulas.Formula": {"of": ["name"], "always": ["value"], "read": ["text"]},
+    "blocks.Block": {"read": ["text"]},
+    "machines.Machine": {"read": ["text"]},
+}
+CONSTRUCTORS = {
+    "blocks.Bit": "(name, area, kept=False, keeper=False, start=False)",
+    "blocks.Signal": "(name, formula, fence=None)",
+    "blocks.Block": "(bits, signals=())",
+    "machines.Rule": "(state, event, guard, then, deeds=())",
+    "machines.Machine": "(first, rules=())",
+}
+OPERATORS = {
+    "formulas.Formula": ["and", "or", "xor", "invert", "le", "ge", "eq", "str"],
+    "blocks.Bit": ["eq", "str"],
+    "blocks.Signal": ["eq", "str"],
+    "blocks.Block": ["len", "add", "eq", "str"],
+    "machines.Rule": ["eq", "str"],
+    "machines.Machine": ["len", "getitem", "add", "eq", "str"],
+}
+
+
+def module(name):
+    return importlib.import_module("wakesafe." + name)
+
+
+def found(path):
+    """The class at a path such as blocks.Bit."""
+    first, second = path.split(".")
+    return getattr(module(first), second)
+
+
+class InterfaceTest(unittest.TestCase):
+    def test_package_file_is_empty_but_for_a_docstring(self):
+        with open(importlib.import_module("wakesafe").__file__, encoding="utf-8") as file:
+            tree = ast.parse(file.read())
+        self.assertEqual(len(tree.body), 1)
+        self.assertIsNotNone(ast.get_docstring(tree))
+
+    def test_classes_stand_in_their_files(self):
+        for name, classes in CLASSES.items():
+            with open(module(name).__file__, encoding="utf-8") as file:
+                tree = ast.parse(file.read())
+            defined = [node.name for node in tree.body if isinstance(node, ast.ClassDef)]
+            for one in classes:
+                self.assertIn(one, defined, name)
+
+    def test_constructors(self):
+        for path, signature in CONSTRUCTORS.items():
+            self.assertEqual(str(inspect.signature(found(path))), signature, path)
+
+    def test_methods(self):
+        for path, methods in METHODS.items():
+            for name, parameters in methods.items():
+                self.assertTrue(inspect.isfunction(vars(found(path))[name]), (path, name))
+                self.assertEqual(list(inspect.signature(vars(found(path))[name]).parameters)[1:], parameters, (path, name))
+
+    def test_class_methods(self):
+        for path, methods in CLASS_METHODS.items():
+            for name, parameters in methods.items():
+                self.assertIsInstance(vars(found(path))[name], classmethod, (path, name))
+                self.assertEqual(list(inspect.signature(getattr(found(path), name)).parameters), parameters, (path, name))
+
+    def test_operators(self):
+        for path, names in OPERATORS.items():
+            for name in names:
+                self.assertIn("__" + name + "__", vars(found(path)), path)
+
+    def test_needs_is_a_property(self):
+        self.assertIsInstance(vars(found("formulas.Formula"))["needs"], property)
+
+
+if __name__ == "__main__":
+    unittest.main()

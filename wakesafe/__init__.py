@@ -1,0 +1,1 @@
+"""Wakesafe: values kept through sleep."""
