@@ -3,6 +3,8 @@
 from wakesafe.blocks import Bit, Block, Signal
 from wakesafe.formulas import Formula
 from wakesafe.machines import Machine, Rule
+from wakesafe.orders import Order
+from wakesafe.runs import play
 
 LETTERS = "abcdefghijklmnopqrstuvwxyz"
 RESERVED = ["any", "none", "ask", "idle", "tick", "dip", "kept", "go", "hold", "note"]
@@ -10,6 +12,17 @@ NAMES = ["a", "z", "ab", "xyz", "abcd", "zzzz", "bit", "run", "off", "wake", "ca
          "held", "nota", "gone", "asks", "dips"]
 NO_NAMES = RESERVED + ["", "abcde", "A", "aB", "a1", "1", "0", "&", "~", "a b", " a", "a ", "a\n", "\n", "a.b", "-", "_",
                        "\u00e9", "\u00df", "\u0430", "{", "`", "@", "["]
+
+GOALS = ("blind", "hollow", "leak", "lost", "stuck", "swallowed", "wrong")
+CONTENTS = ["right", "other", "unknown"]
+# The block and the machines of the document's examples.
+BLOCK = Block.read("bit x a kept keeper\nbit y b start\nsignal s f & x y")
+GOOD_TEXT = "first run\nrun ask any -> run: answer\nrun idle calm -> off: hold, fence f, save a, cut a\n" \
+            "off ask any -> wake: note, power a\nwake ask any -> wake: note\n" \
+            "wake tick any -> run: load a, open f, go, answer"
+GOOD = Machine.read(GOOD_TEXT)
+HASTY = Machine.read(GOOD_TEXT.replace("hold, fence f, save a", "fence f, save a, hold"))
+NO_GOALS = ["", "Blind", "blind ", " lost", "los", "loster", "lost wrong", "ask", "dip", "none", "x", "lost\n"]
 
 
 def deep(depth):
@@ -21,16 +34,27 @@ def deep(depth):
 
 
 def objects():
-    """One object of each class of the package."""
+    """One object of each class of the package that has a described ==."""
     rule = Rule("run", "ask", "any", "run", ["answer"])
     bit = Bit("x", "a")
-    return [Formula.of("x"), bit, Signal("s", Formula.of("x")), Block([bit]), rule, Machine("run", [rule])]
+    order = Order(["hold", "cut a"], [("hold", "cut a")])
+    return [Formula.of("x"), bit, Signal("s", Formula.of("x")), Block([bit]), rule, Machine("run", [rule]), order]
+
+
+def a_played():
+    """What a run returns."""
+    return play(BLOCK, GOOD, ["idle", "ask"])
+
+
+def a_machine(*lines):
+    """The machine with the first state run and rules with these texts."""
+    return Machine.read("\n".join(["first run", *lines]))
 
 
 def no_strings():
     """Values of all kinds but strings."""
     values = [0, 1, -1, 7, 10 ** 30, True, False, None, [], (), ["a"], ("a",), ["x", ["y", (1, None)]]]
-    return values + [deep(8), [objects()]] + objects()
+    return values + [deep(8), [objects()], a_played(), (a_played(),)] + objects()
 
 
 def no_names():

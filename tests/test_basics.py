@@ -3,11 +3,16 @@
 import operator
 import unittest
 
+from wakesafe import deciding, orders
 from wakesafe.blocks import Bit, Block, Signal
 from wakesafe.errors import InvalidBlock, InvalidFormula, InvalidMachine
 from wakesafe.formulas import Formula
 from wakesafe.machines import Machine, Rule
-from tests.helper import Checks, LETTERS, NAMES, RESERVED, deep, no_names, objects
+from wakesafe.orders import Order
+from wakesafe.papers import paper, paper_holds
+from wakesafe.runs import play
+from tests import helper
+from tests.helper import Checks, GOALS, GOOD, HASTY, LETTERS, NAMES, RESERVED, a_played, deep, no_names, objects
 
 BLOCK = "bit x b kept keeper\nbit y a\nsignal s g & x y\nsignal t f x"
 MACHINE = "first run\nrun ask any -> run: answer\nrun dip a calm -> off: hold, fence f"
@@ -137,7 +142,7 @@ class ObjectsTest(Checks, unittest.TestCase):
                 self.assertIs(first != second, m != n)
 
     def test_not_iterable(self):
-        for thing in objects():
+        for thing in objects() + [a_played()]:
             self.check_not_iterable(thing)
             with self.assertRaises(TypeError):
                 first, second = thing
@@ -169,6 +174,108 @@ class ObjectsTest(Checks, unittest.TestCase):
             self.assertEqual(str(block.keeping([])), BLOCK.replace(" keeper", ""))
             self.assertEqual(machine.rule_for("run", "dip a", False), 1)
             self.assertEqual(str(machine.without(1)), "\n".join(MACHINE.split("\n")[:2]))
+
+
+class RunsTest(Checks, unittest.TestCase):
+    """The same for runs, deciding, papers and orders."""
+
+    def test_later_changes_to_arguments(self):
+        events = ["idle", "dip b", "ask"]
+        deeds, pairs = ["hold", "go", "cut a"], [("hold", "go")]
+        played, order = play(helper.BLOCK, GOOD, events), Order(deeds, pairs)
+        sleep = ["hold", "fence f", "save a", "cut a"]
+        made = orders.sleep_order(helper.BLOCK, sleep)
+        for given in (events, deeds, pairs, sleep):
+            given.reverse()
+            given.append(given[0])
+            given.clear()
+        self.assertEqual((played.rules, played.answered, played.state), ((1, None, 2), (False,) * 3, "wake"))
+        self.assertEqual((str(order), order.deeds, order.many), ("hold < go, cut a", ("cut a", "go", "hold"), 3))
+        self.assertEqual(str(made), "fence f < cut a, hold < save a, save a < cut a")
+
+    def test_arguments_stay_as_they_are(self):
+        events, without = ["idle", "ask", "tick"], ["spill", "dip b", "spill"]
+        deeds, pairs = ["save a", "hold", "cut a", "fence f"], [("save a", "cut a"), ("hold", "cut a")]
+        block, machine = str(helper.BLOCK), str(GOOD)
+        play(helper.BLOCK, GOOD, events)
+        for goal in GOALS:
+            told = paper(helper.BLOCK, GOOD, goal, without)
+            paper_holds(helper.BLOCK, GOOD, goal, told, without)
+            deciding.least(helper.BLOCK, GOOD, goal, without)
+            deciding.culprits(helper.BLOCK, GOOD, goal, without)
+        deciding.goals(helper.BLOCK, GOOD, without)
+        deciding.comes(helper.BLOCK, GOOD, 1, without)
+        order = Order(deeds, pairs)
+        self.assertTrue(order.holds(orders.sleep_order(helper.BLOCK, deeds).earliest))
+        orders.sleep_safe(helper.BLOCK, deeds)
+        order.holds(deeds)
+        self.assertEqual((events, without), (["idle", "ask", "tick"], ["spill", "dip b", "spill"]))
+        self.assertEqual(deeds, ["save a", "hold", "cut a", "fence f"])
+        self.assertEqual(pairs, [("save a", "cut a"), ("hold", "cut a")])
+        self.assertEqual((str(helper.BLOCK), str(GOOD)), (block, machine))
+
+    def test_sequences_are_tuples(self):
+        order, played = Order(["hold", "go"], [("hold", "go")]), a_played()
+        told = paper(helper.BLOCK, GOOD, "lost", ["dip", "spill"])
+        sequences = [order.deeds, order.pairs, order.links, order.earliest, Order([]).deeds, Order([]).pairs, played.powered,
+                     played.raised, played.rules, played.answered, played.goals, played.view,
+                     deciding.goals(helper.BLOCK, GOOD), deciding.goals(helper.BLOCK, GOOD, ["dip"]),
+                     deciding.least(helper.BLOCK, GOOD, "lost"), deciding.culprits(helper.BLOCK, GOOD, "lost"),
+                     deciding.culprits(helper.BLOCK, GOOD, "stuck"), told]
+        sequences += [*told, *[pair[1] for pair in told], *[standing for pair in told for standing in pair[1]]]
+        sequences += [*order.pairs, *order.links, *deciding.culprits(helper.BLOCK, GOOD, "leak")]
+        for sequence in sequences:
+            self.assertIs(type(sequence), tuple)
+
+    def test_lists_and_tuples(self):
+        block = helper.BLOCK
+        for without in (["dip", "spill"], ("dip", "spill")):
+            self.assertEqual(deciding.goals(block, GOOD, without), ())
+            self.assertIs(deciding.happens(block, HASTY, "lost", without), True)
+            self.assertEqual(deciding.least(block, HASTY, "lost", without), ("idle", "ask", "tick"))
+            self.assertEqual(deciding.culprits(block, HASTY, "lost", without), ("x",))
+            self.assertIs(deciding.comes(block, HASTY, 4, without), True)
+            self.assertIs(paper_holds(block, GOOD, "lost", paper(block, GOOD, "lost", without), without), True)
+        self.assertEqual(Order(["hold", "go"], [("hold", "go")]), Order(("hold", "go"), (("hold", "go"),)))
+        for call, deeds in ((orders.sleep_order, ["hold", "cut b"]), (orders.wake_order, ["power a", "go"]),
+                            (orders.sleep_safe, ["hold", "cut b"]), (orders.wake_safe, ["power b", "go"])):
+            self.assertEqual(call(block, deeds), call(block, tuple(deeds)))
+
+    def test_parameter_names(self):
+        given = {"block": helper.BLOCK, "machine": HASTY}
+        aside = {**given, "without": ["dip", "spill"]}
+        self.assertEqual(play(events=["idle"], **given).state, "off")
+        self.assertEqual(deciding.goals(**aside), ("lost", "wrong"))
+        self.assertIs(deciding.happens(goal="lost", **aside), True)
+        self.assertEqual(deciding.least(goal="lost", **aside), ("idle", "ask", "tick"))
+        self.assertIs(deciding.comes(at=0, **aside), True)
+        self.assertEqual(deciding.culprits(goal="lost", **aside), ("x",))
+        self.assertIs(paper(goal="lost", **aside), None)
+        told = paper(goal="stuck", **given)
+        self.assertIs(paper_holds(goal="stuck", value=told, **aside), True)
+        order = Order(pairs=[("hold", "go")], deeds=["go", "hold"])
+        self.assertIs(order.holds(value=["hold", "go"]), True)
+        self.assertEqual(str(order.without(deed="go")), "hold")
+        self.assertEqual(Order.read(text="hold < go"), order)
+        self.assertIs(orders.sleep_safe(deeds=["hold", "cut b"], block=Block.read("bit x b")), True)
+        self.assertEqual(str(orders.sleep_order(deeds=["hold", "cut b"], block=Block.read("bit x b"))), "hold < cut b")
+        self.assertIs(orders.wake_safe(deeds=["power b", "go"], block=Block.read("bit x b")), False)
+        self.assertIs(orders.wake_order(deeds=["power b", "go"], block=Block.read("bit x b")), None)
+
+    def test_operators_leave_operands(self):
+        p, q = Order.read("hold < go, note"), Order.read("go < note, hold")
+        ~p, p & q, p | q, p <= q, p == q, p >= q
+        self.assertEqual((str(p), str(q), p.pairs, q.many), ("hold < go, note", "go < note, hold", (("hold", "go"),), 3))
+
+    def test_same_call_twice(self):
+        calls = [lambda: deciding.goals(helper.BLOCK, GOOD), lambda: paper(helper.BLOCK, GOOD, "leak", ["dip"]),
+                 lambda: deciding.least(helper.BLOCK, GOOD, "leak"), lambda: deciding.culprits(helper.BLOCK, GOOD, "leak"),
+                 lambda: play(helper.BLOCK, HASTY, ["idle", "ask", "tick"]).contents, lambda: a_played().keepers,
+                 lambda: orders.wake_order(helper.BLOCK, ["power a", "load a", "go"]),
+                 lambda: deciding.comes(helper.BLOCK, GOOD, 3, ["tick"])]
+        first = [call() for call in calls]
+        self.assertEqual([call() for call in calls[::-1]][::-1], first)
+        self.assertEqual([call() for call in calls], first)
 
 
 if __name__ == "__main__":

@@ -12,6 +12,28 @@ CLASSES = {
     "formulas": ["Formula"],
     "blocks": ["Bit", "Signal", "Block"],
     "machines": ["Rule", "Machine"],
+    "runs": ["Played"],
+    "orders": ["Order"],
+}
+FUNCTIONS = {
+    "runs": {"play": "(block, machine, events)"},
+    "deciding": {
+        "happens": "(block, machine, goal, without=())",
+        "least": "(block, machine, goal, without=())",
+        "goals": "(block, machine, without=())",
+        "comes": "(block, machine, at, without=())",
+        "culprits": "(block, machine, goal, without=())",
+    },
+    "papers": {
+        "paper": "(block, machine, goal, without=())",
+        "paper_holds": "(block, machine, goal, value, without=())",
+    },
+    "orders": {
+        "sleep_safe": "(block, deeds)",
+        "sleep_order": "(block, deeds)",
+        "wake_safe": "(block, deeds)",
+        "wake_order": "(block, deeds)",
+    },
 }
 METHODS = {
     "formulas.Formula": {"value": ["known"], "under": ["known"], "depends": ["name"], "put": ["formulas"]},
@@ -20,18 +42,22 @@ METHODS = {
     "blocks.Block": {"bit": ["name"], "signal": ["name"], "keeping": ["names"], "fencing": ["names"]},
     "machines.Rule": {},
     "machines.Machine": {"without": ["at"], "rule_for": ["state", "event", "waits"]},
+    "orders.Order": {"holds": ["value"], "without": ["deed"]},
 }
 CLASS_METHODS = {
     "formulas.Formula": {"of": ["name"], "always": ["value"], "read": ["text"]},
     "blocks.Block": {"read": ["text"]},
     "machines.Machine": {"read": ["text"]},
+    "orders.Order": {"read": ["text"]},
 }
+PROPERTIES = {"formulas.Formula": ["needs"], "runs.Played": ["contents", "keepers"]}
 CONSTRUCTORS = {
     "blocks.Bit": "(name, area, kept=False, keeper=False, start=False)",
     "blocks.Signal": "(name, formula, fence=None)",
     "blocks.Block": "(bits, signals=())",
     "machines.Rule": "(state, event, guard, then, deeds=())",
     "machines.Machine": "(first, rules=())",
+    "orders.Order": "(deeds, pairs=())",
 }
 OPERATORS = {
     "formulas.Formula": ["and", "or", "xor", "invert", "le", "ge", "eq", "str"],
@@ -40,6 +66,7 @@ OPERATORS = {
     "blocks.Block": ["len", "add", "eq", "str"],
     "machines.Rule": ["eq", "str"],
     "machines.Machine": ["len", "getitem", "add", "eq", "str"],
+    "orders.Order": ["and", "or", "invert", "le", "ge", "len", "eq", "str"],
 }
 
 
@@ -68,6 +95,13 @@ class InterfaceTest(unittest.TestCase):
             for one in classes:
                 self.assertIn(one, defined, name)
 
+    def test_functions(self):
+        for name, functions in FUNCTIONS.items():
+            for one, signature in functions.items():
+                function = getattr(module(name), one)
+                self.assertTrue(inspect.isfunction(function), one)
+                self.assertEqual((function.__module__, str(inspect.signature(function))), ("wakesafe." + name, signature))
+
     def test_constructors(self):
         for path, signature in CONSTRUCTORS.items():
             self.assertEqual(str(inspect.signature(found(path))), signature, path)
@@ -89,8 +123,10 @@ class InterfaceTest(unittest.TestCase):
             for name in names:
                 self.assertIn("__" + name + "__", vars(found(path)), path)
 
-    def test_needs_is_a_property(self):
-        self.assertIsInstance(vars(found("formulas.Formula"))["needs"], property)
+    def test_properties(self):
+        for path, names in PROPERTIES.items():
+            for name in names:
+                self.assertIsInstance(vars(found(path))[name], property, (path, name))
 
 
 if __name__ == "__main__":

@@ -1,4 +1,4 @@
-"""The words that all modules share: names, events and deeds."""
+"""The words that all modules share: names, events, deeds and goals."""
 
 LETTERS = "abcdefghijklmnopqrstuvwxyz"
 LONGEST = 4
@@ -10,6 +10,8 @@ AREA_EVENTS = ("dip", "spill")
 PLAIN_DEEDS = ("hold", "go", "note", "answer", "forget")
 FENCE_DEEDS = ("fence", "open")
 AREA_DEEDS = ("save", "load", "cut", "power", "reset")
+
+GOALS = ("blind", "hollow", "leak", "lost", "stuck", "swallowed", "wrong")
 
 
 def is_sequence(value):
