@@ -66,6 +66,27 @@ def tame_machine(chance, block):
     return Machine("run", rules)
 
 
+def changed_machine(chance, block, machine):
+    """A machine in which one rule is another one, or has moved, or has its deeds in another way."""
+    rules = list(machine.rules)
+    way = chance.randrange(5)
+    if way == 0 or not rules:
+        return Machine(machine.first, rules + list(any_machine(chance, block, 2, 3, 2).rules))
+    at = chance.randrange(len(rules))
+    if way == 1:
+        rules.insert(chance.randrange(len(rules)), rules.pop(at))
+        return Machine(machine.first, rules)
+    if way == 2:
+        return machine.without(at)
+    rule, deeds = rules[at], list(rules[at].deeds)
+    if way == 3 and len(deeds) > 1:
+        deeds.insert(chance.randrange(len(deeds)), deeds.pop(chance.randrange(len(deeds))))
+    else:
+        deeds.insert(chance.randint(0, len(deeds)), any_deed(chance, block, rule.event))
+    rules[at] = Rule(rule.state, rule.event, rule.guard, rule.then, deeds)
+    return Machine(machine.first, rules)
+
+
 def some_events(chance, block, most=12):
     """A sequence of events of a block."""
     events = ["ask", "idle", "tick", "ask", "idle", "tick"]

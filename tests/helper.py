@@ -1,6 +1,9 @@
 """What several tests need."""
 
+from wakesafe.bench import Bench
 from wakesafe.blocks import Bit, Block, Signal
+from wakesafe.desk import Desk
+from wakesafe.errors import Mismatch, NoRule, Refused
 from wakesafe.formulas import Formula
 from wakesafe.machines import Machine, Rule
 from wakesafe.orders import Order
@@ -54,7 +57,8 @@ def a_machine(*lines):
 def no_strings():
     """Values of all kinds but strings."""
     values = [0, 1, -1, 7, 10 ** 30, True, False, None, [], (), ["a"], ("a",), ["x", ["y", (1, None)]]]
-    return values + [deep(8), [objects()], a_played(), (a_played(),)] + objects()
+    others = [a_played(), Bench(BLOCK, GOOD), Desk(), Mismatch(), Refused(0), NoRule(1)]
+    return values + [deep(8), [objects()], (a_played(),), tuple(others)] + others + objects()
 
 
 def no_names():

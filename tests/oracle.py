@@ -224,6 +224,45 @@ def explore(first, events):
     return found, rules
 
 
+def shown(world, event):
+    """What an event shows."""
+    _, answered = world.take(event)
+    return answered, world.view()
+
+
+def fewest_apart(block, p, q, without=()):
+    """The fewest events whose last one does not show the same of two machines, or None."""
+    worlds, many = [(World(block, p), World(block, q))], 0
+    known = {tuple(world.key() for world in worlds[0])}
+    while worlds:
+        many += 1
+        later = []
+        for pair in worlds:
+            for event in events_of(block, without):
+                one, other = pair[0].copy(), pair[1].copy()
+                if shown(one, event) != shown(other, event):
+                    return many
+                if (one.key(), other.key()) not in known:
+                    known.add((one.key(), other.key()))
+                    later.append((one, other))
+        worlds = later
+    return None
+
+
+def fewest_names(names, made, machine, goals, without=()):
+    """The choices of the fewest names with which the block that is made comes to none of the goals."""
+    for many in range(len(names) + 1):
+        found = []
+        for chosen in itertools.combinations(sorted(names), many):
+            block = made(chosen)
+            met, _ = explore(World(block, machine), events_of(block, without))
+            if not any(goal in met for goal in goals):
+                found.append(chosen)
+        if found:
+            return found
+    return []
+
+
 def watches_of(block, goal):
     """The watches of a goal."""
     if goal in ("blind", "lost"):

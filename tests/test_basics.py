@@ -3,8 +3,11 @@
 import operator
 import unittest
 
-from wakesafe import deciding, orders
+from wakesafe import deciding, needs, orders
+from wakesafe.alike import alike, parting
+from wakesafe.bench import Bench
 from wakesafe.blocks import Bit, Block, Signal
+from wakesafe.desk import Desk
 from wakesafe.errors import InvalidBlock, InvalidFormula, InvalidMachine
 from wakesafe.formulas import Formula
 from wakesafe.machines import Machine, Rule
@@ -273,6 +276,93 @@ class RunsTest(Checks, unittest.TestCase):
                  lambda: play(helper.BLOCK, HASTY, ["idle", "ask", "tick"]).contents, lambda: a_played().keepers,
                  lambda: orders.wake_order(helper.BLOCK, ["power a", "load a", "go"]),
                  lambda: deciding.comes(helper.BLOCK, GOOD, 3, ["tick"])]
+        first = [call() for call in calls]
+        self.assertEqual([call() for call in calls[::-1]][::-1], first)
+        self.assertEqual([call() for call in calls], first)
+
+
+class LastTest(Checks, unittest.TestCase):
+    """The same for needs, alike, benches and desks."""
+
+    def test_later_changes_to_arguments(self):
+        bench, events = Bench(helper.BLOCK, GOOD), ["idle", "ask"]
+        results = bench.several(events)
+        events.reverse()
+        events.append("tick")
+        self.assertEqual((bench.events, bench.played.state, len(results)), (("idle", "ask"), "wake", 2))
+
+    def test_arguments_stay_as_they_are(self):
+        without, events = ["spill", "dip", "dip b", "spill"], ["idle", "ask", "tick"]
+        texts = [str(thing) for thing in (helper.BLOCK, GOOD, HASTY)]
+        needs.needed_fences(helper.BLOCK, GOOD, without)
+        needs.needed_keepers(helper.BLOCK, GOOD, without)
+        needs.needless_rules(helper.BLOCK, GOOD, without)
+        parting(helper.BLOCK, GOOD, HASTY, without)
+        alike(helper.BLOCK, GOOD, HASTY, without)
+        Bench(helper.BLOCK, GOOD).several(events)
+        self.assertEqual((without, events), (["spill", "dip", "dip b", "spill"], ["idle", "ask", "tick"]))
+        self.assertEqual([str(thing) for thing in (helper.BLOCK, GOOD, HASTY)], texts)
+
+    def test_sequences_are_tuples(self):
+        block, without = helper.BLOCK, ["dip", "spill"]
+        bench = Bench(block, GOOD)
+        sequences = [needs.needed_fences(block, GOOD, without), needs.needed_fences(block, Machine("run"), without),
+                     needs.needed_keepers(block, GOOD, without), needs.needed_keepers(block, Machine("run"), without),
+                     needs.needless_rules(block, GOOD), needs.needless_rules(block, Machine("run")),
+                     parting(block, GOOD, Machine("run")), bench.events, *bench.take("ask")[1:], bench.take("ask"),
+                     bench.several(["ask"]), bench.several([]), *bench.several(["ask"]), bench.events]
+        for sequence in sequences:
+            self.assertIs(type(sequence), tuple)
+
+    def test_lists_and_tuples(self):
+        block = helper.BLOCK
+        for without in (["dip", "spill"], ("dip", "spill")):
+            self.assertEqual(needs.needed_fences(block, GOOD, without), ("s",))
+            self.assertEqual(needs.needed_keepers(block, GOOD, without), ("x",))
+            self.assertEqual(needs.needless_rules(block, GOOD, without), (3,))
+            self.assertIs(alike(block, GOOD, HASTY, without), True)
+            self.assertEqual(parting(block, GOOD, Machine("run"), without), ("ask",))
+        for events in (["idle", "ask"], ("idle", "ask")):
+            self.assertEqual(Bench(block, GOOD).several(events), ((False, ("fenced",)), (False, ("fenced",))))
+
+    def test_bools_are_bools(self):
+        bench = Bench(helper.BLOCK, GOOD)
+        for value in (bench.undo(), bench.take("ask")[0], bench.undo(), alike(helper.BLOCK, GOOD, HASTY),
+                      alike(helper.BLOCK, GOOD, GOOD)):
+            self.assertIs(type(value), bool)
+
+    def test_parameter_names(self):
+        block, aside = helper.BLOCK, ["dip", "spill"]
+        for call, wanted in ((needs.needed_fences, ("s",)), (needs.needed_keepers, ("x",)), (needs.needless_rules, (3,))):
+            self.assertEqual(call(without=aside, machine=GOOD, block=block), wanted)
+        self.assertIs(alike(without=aside, q=HASTY, p=GOOD, block=block), True)
+        self.assertEqual(parting(without=aside, q=Machine("run"), p=GOOD, block=block), ("ask",))
+        bench = Bench(machine=GOOD, block=block)
+        self.assertEqual(bench.take(event="idle"), (False, ("fenced",)))
+        self.assertEqual(bench.several(events=["ask"]), ((False, ("fenced",)),))
+        self.assertIs(bench.follow(machine=HASTY), None)
+        self.assertEqual(bench.within(work=len), 3)
+        self.assertEqual(Desk().say(command="block bit x a"), "1")
+
+    def test_not_iterable(self):
+        desk = Desk()
+        desk.say("block bit x a")
+        desk.say("machine first run")
+        for thing in (Bench(helper.BLOCK, GOOD), desk.bench, desk, Desk(), desk.bench.trial()):
+            self.check_not_iterable(thing)
+
+    def test_same_call_twice(self):
+        block, bench = helper.BLOCK, Bench(helper.BLOCK, GOOD)
+        bench.several(["idle", "ask"])
+        desk = Desk()
+        for command in ("block bit x a kept", "machine first run ; run idle any -> off: hold, cut a", "take idle"):
+            desk.say(command)
+        calls = [lambda: needs.needed_fences(block, GOOD), lambda: needs.needed_keepers(block, GOOD, ["dip", "spill"]),
+                 lambda: needs.needless_rules(block, GOOD), lambda: parting(block, GOOD, HASTY),
+                 lambda: parting(block, GOOD, GOOD.without(4)), lambda: bench.events, lambda: bench.machine,
+                 lambda: bench.played.contents, lambda: bench.within(lambda held: held.take("tick")), lambda: len(bench),
+                 lambda: desk.say("goals"), lambda: desk.say("bits"), lambda: desk.say("least lost"),
+                 lambda: desk.say("sleep hold, cut a")]
         first = [call() for call in calls]
         self.assertEqual([call() for call in calls[::-1]][::-1], first)
         self.assertEqual([call() for call in calls], first)

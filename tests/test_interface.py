@@ -5,6 +5,10 @@ import importlib
 import inspect
 import unittest
 
+from wakesafe.bench import Bench
+from wakesafe.desk import Desk
+from tests.helper import BLOCK, GOOD, a_played, objects
+
 ERRORS = ["WakeError", "InvalidFormula", "InvalidBlock", "InvalidMachine", "InvalidOrder", "InvalidText", "InvalidEvent",
           "InvalidGoal", "InvalidCommand", "Mismatch", "Refused", "NoRule", "NoName"]
 CLASSES = {
@@ -14,6 +18,8 @@ CLASSES = {
     "machines": ["Rule", "Machine"],
     "runs": ["Played"],
     "orders": ["Order"],
+    "bench": ["Bench"],
+    "desk": ["Desk"],
 }
 FUNCTIONS = {
     "runs": {"play": "(block, machine, events)"},
@@ -34,6 +40,15 @@ FUNCTIONS = {
         "wake_safe": "(block, deeds)",
         "wake_order": "(block, deeds)",
     },
+    "alike": {
+        "alike": "(block, p, q, without=())",
+        "parting": "(block, p, q, without=())",
+    },
+    "needs": {
+        "needed_fences": "(block, machine, without=())",
+        "needed_keepers": "(block, machine, without=())",
+        "needless_rules": "(block, machine, without=())",
+    },
 }
 METHODS = {
     "formulas.Formula": {"value": ["known"], "under": ["known"], "depends": ["name"], "put": ["formulas"]},
@@ -43,6 +58,8 @@ METHODS = {
     "machines.Rule": {},
     "machines.Machine": {"without": ["at"], "rule_for": ["state", "event", "waits"]},
     "orders.Order": {"holds": ["value"], "without": ["deed"]},
+    "bench.Bench": {"take": ["event"], "several": ["events"], "follow": ["machine"], "undo": [], "trial": [], "within": ["work"]},
+    "desk.Desk": {"say": ["command"]},
 }
 CLASS_METHODS = {
     "formulas.Formula": {"of": ["name"], "always": ["value"], "read": ["text"]},
@@ -50,7 +67,12 @@ CLASS_METHODS = {
     "machines.Machine": {"read": ["text"]},
     "orders.Order": {"read": ["text"]},
 }
-PROPERTIES = {"formulas.Formula": ["needs"], "runs.Played": ["contents", "keepers"]}
+PROPERTIES = {
+    "formulas.Formula": ["needs"],
+    "runs.Played": ["contents", "keepers"],
+    "bench.Bench": ["machine", "events", "played"],
+}
+SETTERS = {"bench.Bench": ["machine"]}
 CONSTRUCTORS = {
     "blocks.Bit": "(name, area, kept=False, keeper=False, start=False)",
     "blocks.Signal": "(name, formula, fence=None)",
@@ -58,6 +80,20 @@ CONSTRUCTORS = {
     "machines.Rule": "(state, event, guard, then, deeds=())",
     "machines.Machine": "(first, rules=())",
     "orders.Order": "(deeds, pairs=())",
+    "bench.Bench": "(block, machine)",
+    "desk.Desk": "()",
+}
+ATTRIBUTES = {
+    "Formula": ["names"],
+    "Bit": ["name", "area", "kept", "keeper", "start"],
+    "Signal": ["name", "formula", "fence"],
+    "Block": ["bits", "signals", "areas", "fences"],
+    "Rule": ["state", "event", "guard", "then", "deeds"],
+    "Machine": ["first", "rules", "states", "areas", "fences"],
+    "Played": ["state", "waits", "going", "powered", "raised", "rules", "answered", "goals", "view"],
+    "Order": ["deeds", "pairs", "links", "many", "earliest"],
+    "Bench": ["block"],
+    "Desk": ["bench"],
 }
 OPERATORS = {
     "formulas.Formula": ["and", "or", "xor", "invert", "le", "ge", "eq", "str"],
@@ -67,6 +103,7 @@ OPERATORS = {
     "machines.Rule": ["eq", "str"],
     "machines.Machine": ["len", "getitem", "add", "eq", "str"],
     "orders.Order": ["and", "or", "invert", "le", "ge", "len", "eq", "str"],
+    "bench.Bench": ["len"],
 }
 
 
@@ -127,6 +164,13 @@ class InterfaceTest(unittest.TestCase):
         for path, names in PROPERTIES.items():
             for name in names:
                 self.assertIsInstance(vars(found(path))[name], property, (path, name))
+                self.assertIs(vars(found(path))[name].fset is not None, name in SETTERS.get(path, []), (path, name))
+
+    def test_attributes_are_set_when_the_object_is_made(self):
+        made = {type(thing).__name__: thing for thing in [*objects(), a_played(), Bench(BLOCK, GOOD), Desk()]}
+        for name, attributes in ATTRIBUTES.items():
+            for attribute in attributes:
+                self.assertIn(attribute, vars(made[name]), name)
 
 
 if __name__ == "__main__":

@@ -107,6 +107,28 @@ class ImportsTest(unittest.TestCase):
                 del imports[module]
 
 
+class ClassesTest(unittest.TestCase):
+    def test_methods_and_attributes(self):
+        methods, properties = {}, []
+        for _, node in nodes():
+            if isinstance(node, ast.ClassDef):
+                own = [one for one in node.body if isinstance(one, ast.FunctionDef)]
+                methods[node.name] = [one.name for one in own]
+                properties += [one.name for one in own if "property" in [getattr(by, "id", "") for by in one.decorator_list]]
+        assigned = [(place, node.attr) for place, node in nodes() if isinstance(node, ast.Attribute)
+                    and isinstance(node.ctx, ast.Store)]
+        for place, name in assigned:
+            self.assertNotIn(name, properties, place)
+            self.assertNotIn(name, [one for own in methods.values() for one in own], place)
+
+    def test_leaving_a_with_statement_only_assigns(self):
+        found = [node for _, node in nodes() if isinstance(node, ast.FunctionDef) and node.name == "__exit__"]
+        self.assertEqual(len(found), 1)
+        for row in found[0].body:
+            self.assertIsInstance(row, ast.Assign)
+            self.assertIsInstance(row.value, ast.Attribute)
+
+
 class WordsTest(unittest.TestCase):
     def test_statements(self):
         for place, node in nodes():
@@ -138,7 +160,8 @@ class WordsTest(unittest.TestCase):
                 self.assertIn(node.name.strip("_"), OPERATORS, place)
 
     def test_builtins(self):
-        every = dir(__import__("builtins"))
+        # The underscore is there only while examples are tried.
+        every = [name for name in dir(__import__("builtins")) if name != "_"]
         for place, node in nodes():
             if isinstance(node, ast.Name) and node.id in every:
                 self.assertIn(node.id, BUILTINS, place)

@@ -68,7 +68,7 @@ def _load(cell, part):
 
 
 def _reset(cell, part):
-    powered, content, keeper, shown = part
+    powered, _, keeper, shown = part
     if not powered or not cell.start:
         return part
     return powered, OTHER if cell.kept else RIGHT, keeper, shown
@@ -139,6 +139,32 @@ def goals_now(cell, part, going):
     if cell.kept and content == OTHER and shown:
         met.append("wrong")
     return met
+
+
+def sight(fenced, seen):
+    """The word of the view for a signal: seen are the contents of its bits, each with whether the bit is kept."""
+    if fenced:
+        return "fenced"
+    if UNKNOWN in [content for content, _ in seen]:
+        return "unknown"
+    if (OTHER, True) in seen:
+        return "wrong"
+    return "clean"
+
+
+class Passage:
+    """What effects do to the parts of a cell; each is found out once."""
+
+    def __init__(self, cell):
+        self.cell = cell
+        self.known = {}
+
+    def moved(self, part, told):
+        """The part behind these effects, and the goals that they meet."""
+        key = (part, told)
+        if key not in self.known:
+            self.known[key] = passed(self.cell, part, told)
+        return self.known[key]
 
 
 def _concerns(cell, phrase):

@@ -3,6 +3,7 @@
 from wakesafe.errors import Mismatch
 from wakesafe.words import AREA_EVENTS, PLAIN_EVENTS, kind_of
 
+
 class Asks:
     """The asks that wait, and the one that comes, during one event.
 

@@ -1,6 +1,6 @@
 """Runs: what a machine does on a sequence of events."""
 
-from wakesafe.cells import OTHER, UNKNOWN, effects, fresh_part, passed
+from wakesafe.cells import effects, fresh_part, passed, sight
 from wakesafe.courses import check_match, course_of, events_of, outset
 from wakesafe.errors import InvalidEvent
 from wakesafe.watches import bit_watches, signal_watches
@@ -82,11 +82,5 @@ def _raised(acts):
 
 def _word(played, block, signal, names):
     """The word of the view for a signal that depends on the bits with these names."""
-    if signal.fence in played.raised:
-        return "fenced"
     contents = dict(played.bit_contents)
-    if UNKNOWN in [contents[name] for name in names]:
-        return "unknown"
-    if OTHER in [contents[name] for name in names if block.bit(name).kept]:
-        return "wrong"
-    return "clean"
+    return sight(signal.fence in played.raised, [(contents[name], block.bit(name).kept) for name in names])

@@ -1,6 +1,6 @@
 """Watches: one bit, or one signal and one bit, or none; and how events lead from standing to standing on them."""
 
-from wakesafe.cells import Cell, effects, fresh_part, passed
+from wakesafe.cells import Cell, Passage, effects, fresh_part
 from wakesafe.courses import check_match, course_of, events_of, outset
 from wakesafe.errors import InvalidGoal
 from wakesafe.words import GOALS, kind_of
@@ -61,14 +61,15 @@ class Study:
 
     def __init__(self, block, machine, without):
         check_match(block, machine)
-        self.events = [event for event in events_of(block) if event not in without and kind_of(event) not in without]
-        self.machine = machine
+        self.first = outset(machine)
+        self.ruled = machine
+        self.choices = [event for event in events_of(block) if event not in without and kind_of(event) not in without]
         self.known = {}
 
     def courses(self, control):
         """Each event with its course from here on."""
         if control not in self.known:
-            self.known[control] = [(event, course_of(self.machine, control, event)) for event in self.events]
+            self.known[control] = [(event, course_of(self.ruled, control, event)) for event in self.choices]
         return self.known[control]
 
 
@@ -82,16 +83,16 @@ class Graph:
     def __init__(self, study, cell):
         self.study = study
         self.cell = cell
-        self.first = (outset(study.machine), () if cell is None else fresh_part(cell))
+        self.first = (study.first, () if cell is None else fresh_part(cell))
+        self.passage = Passage(cell)
         self.roads = {}
-        self.moves = {}
 
     def onward(self, node):
         """What may come next: triples of an event, the node behind it, and the goals that it meets."""
         control, part = node
         found = []
         for event, after, met, told in self._roads_from(control):
-            moved, also_met = self._moved(part, told)
+            moved, also_met = self.passage.moved(part, told) if told else (part, ())
             found.append((event, (after, moved), met + also_met))
         return found
 
@@ -104,15 +105,6 @@ class Graph:
                 roads.setdefault((course.after, course.met, told), event)
             self.roads[control] = [(event, after, met, told) for (after, met, told), event in roads.items()]
         return self.roads[control]
-
-    def _moved(self, part, told):
-        """The part behind these effects, and the goals that they meet."""
-        if not told:
-            return part, ()
-        key = (part, told)
-        if key not in self.moves:
-            self.moves[key] = passed(self.cell, part, told)
-        return self.moves[key]
 
 
 class Journey:

@@ -31,6 +31,11 @@ def is_event(value):
     return isinstance(value, str) and _is_phrase(value, PLAIN_EVENTS, AREA_EVENTS)
 
 
+def is_kind(word):
+    """Whether a string is a kind of events."""
+    return word in PLAIN_EVENTS or word in AREA_EVENTS
+
+
 def is_deed(value):
     """Whether any value is a deed, of whatever area or fence."""
     return isinstance(value, str) and _is_phrase(value, PLAIN_DEEDS, FENCE_DEEDS + AREA_DEEDS)
